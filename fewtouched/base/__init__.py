@@ -1,0 +1,1 @@
+"""Names, scenes, and what is built on them."""
