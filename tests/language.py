@@ -823,7 +823,7 @@ def impure(package):
         seen.append(function)
         queue = queue + called_by(package, function)
     for function in seen:
-        for line, what in changes(function):
+        for line, what in changes(package, function):
             yield package.path_around[function], line, "L5", f"{what} in what an operator or a property runs"
 
 
@@ -856,15 +856,25 @@ def created(function):
     return new - other
 
 
-def changes(function):
-    fresh = created(function)
+def made(package, function):
+    """The local names that are assigned once, a new object of an own class."""
+    calls, stores = {}, [name for name, _ in stored_names(function)]
+    for node in ast.walk(function):
+        if isinstance(node, ast.Assign) and len(node.targets) == 1 and isinstance(node.targets[0], ast.Name):
+            if is_call(node.value, *package.classes):
+                calls[node.targets[0].id] = True
+    return {name for name in calls if stores.count(name) == 1}
+
+
+def changes(package, function):
+    fresh, new = created(function), made(package, function)
     given = {part.arg for part in parameters(function)}
     first = parameters(function)[0].arg if parameters(function) else ""
     marks = [getattr(mark, "id", "") for mark in function.decorator_list]
     for node in ast.walk(function):
         if isinstance(node, ast.Attribute) and isinstance(node.ctx, (ast.Store, ast.Del)):
-            own = function.name == "__init__" and isinstance(node.value, ast.Name) and node.value.id == first
-            if not own:
+            of_name = node.value.id if isinstance(node.value, ast.Name) else ""
+            if not (function.name == "__init__" and of_name == first) and of_name not in new:
                 yield node.lineno, "an attribute is assigned"
         if isinstance(node, ast.Subscript) and isinstance(node.ctx, (ast.Store, ast.Del)):
             if not (isinstance(node.value, ast.Name) and node.value.id in fresh):

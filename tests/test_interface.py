@@ -1,67 +1,102 @@
 """The interface: names, parameters, and where each function, class and method is defined."""
 
 import inspect
+from importlib import import_module
 
 from fewtouched import errors
-from fewtouched.base import names, scenes
+from fewtouched.base import scenes
+from fewtouched.base.bases import Base
 from fewtouched.base.scenes import Scene
 from tests.values import Case, SHOP
 
-PLAIN, REST, ONLY = (inspect.Parameter.POSITIONAL_OR_KEYWORD, inspect.Parameter.VAR_POSITIONAL,
-                     inspect.Parameter.KEYWORD_ONLY)
-FUNCTIONS = {"is_name": ["value"], "is_columns": ["value"], "project": ["columns", "integers", "some"],
-             "joined": ["columns", "integers", "others", "more"]}
-PROPERTIES = ("tables", "changing", "fixed", "columns", "lines")
-METHODS = {"columns_of": ["table"], "key_of": ["table"], "held": ["*tables"], "freed": ["*tables"],
-           "with_table": ["table", "columns", "key='changing'"], "without": ["*tables"], "with_key": ["table", "key"],
-           "renamed": ["kind", "names"]}
-OPERATORS = ("__init__", "__or__", "__contains__", "__len__", "__iter__", "__eq__", "__str__")
+PLAIN, REST, ONLY, MORE = (inspect.Parameter.POSITIONAL_OR_KEYWORD, inspect.Parameter.VAR_POSITIONAL,
+                           inspect.Parameter.KEYWORD_ONLY, inspect.Parameter.VAR_KEYWORD)
+
+# Each function of each module, with its parameters as the interface tells them; those behind * by keyword.
+FUNCTIONS = {
+    "fewtouched.base.names": ("is_name(value)", "is_columns(value)", "project(columns, integers, some)",
+                              "joined(columns, integers, others, more)"),
+    "fewtouched.base.matches": ("matches(base, tables)", "total_of(base)", "answer(base, door, integers)",
+                                "answers(base, door)", "difference(base, table, row)"),
+    "fewtouched.views.closures": ("closure(scene, columns, tables)", "reached(scene, columns, tables)",
+                                  "key_steps(scene, columns, tables)", "names_of(scene, role)",
+                                  "finds(base, role, integers, *, tables=None)"),
+    "fewtouched.views.views": ("is_view(scene, value)", "all_views(scene)", "entry(base, view, integers)",
+                               "entries(base, view)", "altered(base, view, table, row)"),
+}
+GENERATORS = ("matches", "all_views")
+CONSTANTS = {"fewtouched.base.scenes": {"MAX_TABLES": 6, "MAX_COLUMNS": 6, "MOST_COLUMNS": 4},
+             "fewtouched.base.bases": {"MAX_ROWS": 400}, "fewtouched.base.matches": {"MAX_ANSWERS": 10000},
+             "fewtouched.views.views": {"MAX_ENTRIES": 10000}}
+
+# Each class: its module, properties, methods with their parameters, class methods, and operators.
+CLASSES = {
+    Scene: ("fewtouched.base.scenes", ("tables", "changing", "fixed", "columns", "lines"),
+            ("columns_of(table)", "key_of(table)", "held(*tables)", "freed(*tables)",
+             "with_table(table, columns, *, key='changing')", "without(*tables)", "with_key(table, key)",
+             "renamed(kind, names)"), ("of(lines)",),
+            ("__init__", "__or__", "__contains__", "__len__", "__iter__", "__eq__", "__str__")),
+    Base: ("fewtouched.base.bases", ("scene", "size"),
+           ("rows(table)", "times(table, row)", "put(table, row, *, many=1)", "take(table, row, *, many=1)",
+            "with_rows(table, rows)", "on(scene)"), ("of(scene, rows)",),
+           ("__init__", "__add__", "__len__", "__eq__", "__str__")),
+}
 
 
 def told(function):
-    """The parameters, without the object, as the interface tells them."""
-    found = []
+    """The name and the parameters, without the object, as the interface tells them."""
+    found, only = [], False
     for part in inspect.signature(function).parameters.values():
-        star = "*" if part.kind == REST else ""
+        if part.name in ("self", "cls"):
+            continue
+        if part.kind == ONLY and not only:
+            found.append("*")
+        only = only or part.kind in (ONLY, REST)
+        star = {REST: "*", MORE: "**"}.get(part.kind, "")
         default = "" if part.default is part.empty else f"={part.default!r}"
         found.append(star + part.name + default)
-    return [part for part in found if part != "self"]
+    return f"{function.__name__}({', '.join(found)})"
 
 
 class Interface(Case):
 
-    def test_names(self):
-        for name, parameters in FUNCTIONS.items():
-            with self.subTest(name):
-                function = getattr(names, name)
-                self.assertTrue(inspect.isfunction(function))
-                self.assertEqual(function.__module__, "fewtouched.base.names")
-                self.assertEqual(told(function), parameters)
-                kinds = {part.kind for part in inspect.signature(function).parameters.values()}
-                self.assertEqual(kinds, {PLAIN})
+    def test_functions(self):
+        for module, lines in FUNCTIONS.items():
+            for line in lines:
+                with self.subTest(module, line=line):
+                    name = line.partition("(")[0]
+                    function = getattr(import_module(module), name)
+                    self.assertTrue(inspect.isfunction(function))
+                    self.assertEqual(function.__module__, module)
+                    self.assertEqual(told(function), line)
+                    self.assertEqual(inspect.isgeneratorfunction(function), name in GENERATORS)
 
-    def test_scene(self):
-        self.assertTrue(inspect.isclass(Scene))
-        self.assertEqual(Scene.__module__, "fewtouched.base.scenes")
-        self.assertEqual(told(Scene), ["changing=None", "fixed=None", "keyed=None"])
-        kinds = [part.kind for part in inspect.signature(Scene).parameters.values()]
-        self.assertEqual(kinds, [ONLY, ONLY, ONLY])
-        for name in ("MAX_TABLES", "MAX_COLUMNS", "MOST_COLUMNS"):
-            self.assertIs(type(getattr(scenes, name)), int)
+    def test_constants(self):
+        for module, constants in CONSTANTS.items():
+            for name, value in constants.items():
+                self.same(getattr(import_module(module), name), value)
 
-    def test_defined_in_the_class_itself(self):
-        for name in PROPERTIES:
-            self.assertIsInstance(vars(Scene)[name], property)
-        for name in (*METHODS, *OPERATORS):
-            self.assertTrue(inspect.isfunction(vars(Scene)[name]), name)
-        self.assertIsInstance(vars(Scene)["of"], classmethod)
+    def test_classes(self):
+        for kind, (module, properties, methods, class_methods, operators) in CLASSES.items():
+            with self.subTest(kind):
+                self.assertTrue(inspect.isclass(kind))
+                self.assertEqual(kind.__module__, module)
+                for name in properties:
+                    self.assertIsInstance(vars(kind)[name], property)
+                for line in methods:
+                    function = vars(kind)[line.partition("(")[0]]
+                    self.assertTrue(inspect.isfunction(function))
+                    self.assertEqual(told(function), line)
+                for line in class_methods:
+                    self.assertIsInstance(vars(kind)[line.partition("(")[0]], classmethod)
+                    self.assertEqual(told(getattr(kind, line.partition("(")[0])), line)
+                for name in operators:
+                    self.assertTrue(inspect.isfunction(vars(kind)[name]), name)
 
-    def test_methods(self):
-        for name, parameters in METHODS.items():
-            with self.subTest(name):
-                self.assertEqual(told(getattr(Scene, name)), parameters)
-        self.assertEqual(told(Scene.of), ["lines"])
-        self.assertEqual(inspect.signature(Scene.with_table).parameters["key"].kind, ONLY)
+    def test_made(self):
+        self.assertEqual(told(Scene), "Scene(*, changing=None, fixed=None, keyed=None)")
+        self.assertEqual(told(Base), "Base(scene, **rows)")
+        self.assertEqual(scenes.Scene, Scene)
 
     def test_arguments_by_keyword_come_in_any_order(self):
         one = Scene(keyed={"f": ()}, fixed={"f": ("a",)}, changing={"t": ("a",)})
@@ -69,6 +104,8 @@ class Interface(Case):
         self.assertEqual(one.lines, other.lines)
         self.assertRaises(TypeError, Scene, {"t": ("a",)})
         self.assertRaises(TypeError, SHOP.with_table, "t", ("a",), "changing")
+        self.assertRaises(TypeError, Base(SHOP).put, "buyer", (1,), 1)
+        self.assertEqual(Base(SHOP, stock=((1,),), buyer=((2,),)), Base(SHOP, buyer=((2,),), stock=((1,),)))
 
     def test_equal_calls_return_equal_results(self):
         for _ in range(3):

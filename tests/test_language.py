@@ -71,7 +71,9 @@ class Box:
         told = {}
         for row in self._rows:
             told[row] = True
-        return Box(sorted(told), many=3)
+        box = Box(sorted(told), many=3)
+        box._many = 4
+        return box
 
     def __contains__(self, value):
         return isinstance(value, str) and value in self._rows
@@ -154,6 +156,7 @@ BAD = (
     ("L5", "class A(ValueError):\n    @property\n    def f(self):\n        return 1"),
     ("L5", "class A:\n    def __iter__(self):\n        rows = [1]\n        return iter(rows)"),
     ("L5", "class A:\n    def __or__(self, other):\n        self.x = 1\n        return other"),
+    ("L5", "class A:\n    def __or__(self, other):\n        new = A()\n        new = other\n        new.x = 1\n        return new"),
     ("L5", "class A:\n    def __or__(self, other):\n        other.rows.append(1)\n        return other"),
     ("L5", "class A:\n    def __or__(self, other):\n        return other()"),
     ("L5", "class A:\n    def __or__(self, other):\n        return f(other)\n\n\ndef f(x):\n    x[0] = 1\n    return x"),

@@ -1,0 +1,1 @@
+"""Closures, views, and which of them are quiet."""
