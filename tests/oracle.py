@@ -1,5 +1,6 @@
 """What the document promises, told in slow ways of its own; and many small scenes and bases."""
 
+from functools import lru_cache
 from itertools import combinations, permutations, product
 from random import Random
 
@@ -120,3 +121,84 @@ def role_columns(scene, role):
 def orders(items):
     """All tuples of different items, of each number."""
     return [order for many in range(len(items) + 1) for order in permutations(items, many)]
+
+
+# Stages 7 to 10
+
+@lru_cache(maxsize=None)
+def closed(lines, columns, tables):
+    return slow_closure(Scene.of(lines), columns, tables)
+
+
+def slow_names(scene, role):
+    return set(closed(scene.lines, role_columns(scene, role), scene.tables))
+
+
+def slow_loud_by(scene, view):
+    """The tables of the view that change, and the closure of whose columns lacks a column of the view."""
+    return tuple(table for table in view[0] if table in scene.changing
+                 and not set(view[1]) <= set(closed(scene.lines, scene.columns_of(table), view[0])))
+
+
+def slow_bridges(scene, role, table):
+    """All tuples of different tables that are bridges, in their order."""
+    mine, others = slow_names(scene, role), slow_names(scene, table)
+    has = {one: set(scene.columns_of(one)) for one in scene.tables}
+    return [path for path in orders(scene.tables) if path and has[path[0]] & (mine - others)
+            and has[path[-1]] & (others - mine)
+            and all((has[one] & has[other]) - mine - others for one, other in zip(path, path[1:]))]
+
+
+def slow_strained(scene, role):
+    """The tables with which the role is strained."""
+    return tuple(table for table in scene.changing if table != role and slow_bridges(scene, role, table))
+
+
+def slow_pieces(scene, role, given):
+    """The groups of the other tables that hang together by columns outside of the closure."""
+    inner = set(closed(scene.lines, role_columns(scene, role), given))
+    outer = {table: set(scene.columns_of(table)) - inner for table in given if table != role}
+    groups = {table: {table} for table in outer}
+    for _ in outer:
+        for table in outer:
+            groups[table] |= {more for other in outer if outer[table] & outer[other] for more in groups[other]}
+    return tuple(sorted({tuple(sorted(group)) for group in groups.values()}))
+
+
+def slow_piece_view(scene, role, piece, given):
+    """The closed piece, and the columns with which it begins."""
+    inner = set(closed(scene.lines, role_columns(scene, role), given))
+    begin = tuple(sorted(set(columns_of(scene, piece)) & inner))
+    return tuple(sorted({*piece, *slow_reached(scene, begin, given)})), begin
+
+
+def slow_leads(scene, view):
+    """The views to which a view of a book leads, by tables that change."""
+    return {table: tuple(slow_piece_view(scene, table, piece, view[0]) for piece in slow_pieces(scene, table, view[0]))
+            for table in view[0] if table in scene.changing}
+
+
+def slow_first_views(scene, doors):
+    """The views that are in a book whatever else is."""
+    return {(scene.tables, ())} | {slow_piece_view(scene, door, piece, scene.tables) for door in doors
+                                   for piece in slow_pieces(scene, door, scene.tables)}
+
+
+def slow_book(scene, doors):
+    """The least set of views that is closed, from the first views on."""
+    views = slow_first_views(scene, doors)
+    while True:
+        more = {one for view in views for told in slow_leads(scene, view).values() for one in told}
+        if more <= views:
+            return tuple(sorted(views))
+        views |= more
+
+
+def slow_number(base, role, integers, given):
+    """The sum of the times of the matches that the row brings, or that agree with the integers."""
+    if isinstance(role, str):
+        base = Base.of(base.scene, {**{table: tuple(row for row, many in base.rows(table).items() for _ in range(many))
+                                       for table in base.scene.tables}, role: (integers,)})
+    columns, told = columns_of(base.scene, given), dict(zip(role_columns(base.scene, role), integers))
+    return sum(times for match, times in slow_matches(base, given).items()
+               if all(told.get(column, integer) == integer for column, integer in zip(columns, match)))

@@ -23,8 +23,22 @@ FUNCTIONS = {
                                   "finds(base, role, integers, *, tables=None)"),
     "fewtouched.views.views": ("is_view(scene, value)", "all_views(scene)", "entry(base, view, integers)",
                                "entries(base, view)", "altered(base, view, table, row)"),
+    "fewtouched.views.quiet": ("is_quiet(scene, view)", "loud_by(scene, view)", "quiet_views(scene)",
+                               "loud_base(scene, view, table, many)", "is_loud_base(scene, view, table, many, value)"),
+    "fewtouched.strain.bridges": ("bridge(scene, role, table)", "bridges(scene, role, table)",
+                                  "is_bridge(scene, role, table, value)", "strains(scene)",
+                                  "strained_tables(scene, role)", "is_served(scene, role)"),
+    "fewtouched.books.pieces": ("pieces(scene, role, *, tables=None)",
+                                "closed_piece(scene, role, piece, *, tables=None)",
+                                "piece_views(scene, role, *, tables=None)",
+                                "number_by(base, role, integers, *, tables=None)",
+                                "factors(base, role, integers, *, tables=None)"),
+    "fewtouched.books.books": ("book(scene, doors=())", "is_book(scene, doors, value)", "loud_views(scene, doors=())",
+                               "is_quiet_book(scene, doors=())", "first_strained(scene, doors=())",
+                               "costs(scene, doors=())", "looked_views(scene, role, doors=())",
+                               "followed(scene, doors=())"),
 }
-GENERATORS = ("matches", "all_views")
+GENERATORS = ("matches", "all_views", "quiet_views", "bridges", "followed")
 CONSTANTS = {"fewtouched.base.scenes": {"MAX_TABLES": 6, "MAX_COLUMNS": 6, "MOST_COLUMNS": 4},
              "fewtouched.base.bases": {"MAX_ROWS": 400}, "fewtouched.base.matches": {"MAX_ANSWERS": 10000},
              "fewtouched.views.views": {"MAX_ENTRIES": 10000}}

@@ -24,9 +24,11 @@ class ThePackage(Case):
 
     def test_files_are_there(self):
         files = files_of_package()
-        for path in ("fewtouched/__init__.py", "fewtouched/errors.py", "fewtouched/base/__init__.py",
-                     "fewtouched/base/names.py", "fewtouched/base/scenes.py"):
-            self.assertIn(path, files)
+        modules = ("errors", "base/names", "base/scenes", "base/bases", "base/matches", "views/closures", "views/views",
+                   "views/quiet", "strain/bridges", "books/pieces", "books/books")
+        for path in modules:
+            self.assertIn(f"fewtouched/{path}.py", files)
+            self.assertIn(f"fewtouched/{path}".rpartition("/")[0] + "/__init__.py", files)
 
     def test_no_tests_in_it(self):
         for path in files_of_package():

@@ -15,6 +15,9 @@ CHAIN = Scene(changing={"r": ("a",)}, fixed={"s": ("a", "b"), "t": ("b", "c")}, 
 DAY = Base(SHOP, buyer=((1,), (2,)), order=((10, 1), (10, 1), (20, 1), (20, 2)), stock=((10,),))
 SHELVES = Base(GOODS, order=((10, 1),), place=((10, 7), (20, 7)), stock=((7,),))
 
+# The scene that stage 8 calls LONG.
+FAR = Scene(changing={"a": ("x",), "b": ("y",)}, fixed={"s": ("x", "z"), "u": ("y", "z")})
+
 LONG = 10 ** 40 - 1
 
 

@@ -50,6 +50,15 @@ def sums_up_to(parts, columns, limit):
     return {integers: sums[integers] for integers in sorted(sums)}
 
 
+def are_more(parts, columns, limit):
+    """Whether there are more sums above 0 than the limit."""
+    try:
+        sums_up_to(parts, columns, limit)
+    except TooMany:
+        return True
+    return False
+
+
 def hanging_together(columns_of_each):
     """Groups of places: two with a column in common are in one group, and so on; both ascending."""
     groups = []

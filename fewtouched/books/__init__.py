@@ -1,0 +1,1 @@
+"""Pieces, and the books that rest on them."""

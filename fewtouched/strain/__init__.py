@@ -1,0 +1,1 @@
+"""What strains two roles, and what can change together."""
