@@ -533,6 +533,11 @@ def expressions(package, path, tree):
                 yield node.lineno, "L7", "more than a name behind a star in a call"
             if isinstance(call.func, ast.Name) and call.func.id in BUILTINS and call.func.id not in ("max", "min", "zip"):
                 yield node.lineno, "L7", "a star in the call of a builtin"
+        if isinstance(node, ast.Starred):
+            above = package.parents[node]
+            index = isinstance(above, ast.Tuple) and isinstance(package.parents[above], ast.Subscript)
+            if isinstance(above, ast.Set) or index:
+                yield node.lineno, "L7", "a star in a set literal or an index"
         if is_set(node):
             yield from set_placed(package, node)
 
@@ -629,6 +634,16 @@ def names(package, path, tree):
                 yield node.lineno, "L26", f"an attribute called {node.attr}"
         if isinstance(node, ast.keyword) and node.arg and node.arg in NOWHERE:
             yield node.value.lineno, "L17", f"a keyword called {node.arg}"
+
+
+def generators(package, path, tree):
+    """No other function or method has a generator's name, and no name of a builtin value's method is one."""
+    for node in ast.walk(tree):
+        if isinstance(node, ast.FunctionDef) and node.name in package.generators:
+            others = [part for part in package.path_around if isinstance(part, ast.FunctionDef)
+                      and part.name == node.name]
+            if len(others) > 1 or node.name in METHODS:
+                yield node.lineno, "L23", f"the generator's name {node.name} has another meaning, too"
 
 
 def name_spelled(name, line):
@@ -763,6 +778,13 @@ def placed(package, node):
     returned_whole = isinstance(above, ast.YieldFrom)
     if not (in_loop or join or tested or kept or returned_whole or is_call(above, *AT_ONCE)):
         yield node.lineno, "L23", "what is iterated at once stands elsewhere"
+    if generator:
+        # Scenes and bases have an __eq__, so sum, min, max, any, all and sorted take a list.
+        if is_call(above, "sum", "min", "max", "any", "all", "sorted"):
+            yield node.lineno, "L23", "a generator in a call that takes a list"
+        given = [*node.args, *[word.value for word in node.keywords]]
+        if not all(isinstance(part, (ast.Name, ast.Attribute, ast.Constant, ast.Lambda)) for part in given):
+            yield node.lineno, "L23", "a generator is passed more than names, attributes and literals"
 
 
 def loops(package, path, tree):
@@ -891,5 +913,5 @@ def changes(package, function):
             yield node.lineno, "global or nonlocal"
 
 
-LOOKS = (characters, sizes, words, imports, module_level, functions, classes, statements, expressions, names, calls,
-         loops, errors)
+LOOKS = (characters, sizes, words, imports, module_level, functions, classes, statements, expressions, names, generators,
+         calls, loops, errors)

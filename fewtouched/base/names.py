@@ -31,6 +31,11 @@ def fits(columns, value):
     return all([is_whole(part) for part in value])
 
 
+def have_common(columns, others):
+    """Whether there is a column in both."""
+    return any([column in others for column in columns])
+
+
 def project(columns, integers, some):
     """The integers for some of the columns, in the order of these."""
     told = _by_column(columns, integers)

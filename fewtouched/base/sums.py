@@ -4,6 +4,7 @@ A part is a pair: columns, in any order, and a dict from integers for them to a 
 with their times are a part. A match of parts has integers for all columns, and the product of their numbers.
 """
 
+from fewtouched.base.names import have_common
 from fewtouched.errors import TooMany
 
 
@@ -63,17 +64,12 @@ def hanging_together(columns_of_each):
     """Groups of places: two with a column in common are in one group, and so on; both ascending."""
     groups = []
     for at, columns in enumerate(columns_of_each):
-        near = [group for group in groups if _meet(group[1], columns)]
-        far = [group for group in groups if not _meet(group[1], columns)]
+        near = [group for group in groups if have_common(group[1], columns)]
+        far = [group for group in groups if not have_common(group[1], columns)]
         places = [at, *[place for group in near for place in group[0]]]
         covered = [*columns, *[column for group in near for column in group[1]]]
         groups = [*far, (sorted(places), covered)]
     return sorted([places for places, _ in groups])
-
-
-def _meet(columns, others):
-    """Whether there is a column in both."""
-    return any([column in others for column in columns])
 
 
 def _agreeing_part(part, told):

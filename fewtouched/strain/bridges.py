@@ -1,6 +1,7 @@
 """Bridges, and which roles they strain."""
 
 from fewtouched.base.checks import columns_of_role, need_changing, need_role, need_scene, need_table
+from fewtouched.base.names import have_common
 from fewtouched.errors import InvalidOperation
 from fewtouched.views.closures import closure_in
 
@@ -104,17 +105,12 @@ def _ways(scene, role, table):
     far = [column for column in others if column not in names]
     between = [column for column in scene.columns if column not in names and column not in others]
     columns_of = {one: scene.columns_of(one) for one in scene.tables}
-    starts = [one for one in scene.tables if _in_common(columns_of[one], near)]
-    ends = [one for one in scene.tables if _in_common(columns_of[one], far)]
+    starts = [one for one in scene.tables if have_common(columns_of[one], near)]
+    ends = [one for one in scene.tables if have_common(columns_of[one], far)]
     inner = {one: [column for column in columns_of[one] if column in between] for one in scene.tables}
-    follows = {one: [other for other in scene.tables if other != one and _in_common(inner[one], inner[other])]
+    follows = {one: [other for other in scene.tables if other != one and have_common(inner[one], inner[other])]
                for one in scene.tables}
     return starts, ends, follows
-
-
-def _in_common(columns, others):
-    """Whether there is a column in both."""
-    return any([column in others for column in columns])
 
 
 def _need_all(scene, role, table):
