@@ -787,6 +787,22 @@ def placed(package, node):
             yield node.lineno, "L23", "a generator is passed more than names, attributes and literals"
 
 
+def properties(package, path, tree):
+    """A property is assigned only where it has a setter, and no method or class value has its name (L5)."""
+    for node in ast.walk(tree):
+        name = node.attr if isinstance(node, ast.Attribute) else ""
+        if name in package.properties and isinstance(node.ctx, (ast.Store, ast.Del)):
+            if not any(isinstance(mark, ast.Attribute) for part in package.methods[name] for mark in part.decorator_list):
+                yield node.lineno, "L5", f"the property {name} is assigned"
+        if isinstance(node, ast.FunctionDef) and node.name in package.properties \
+                and isinstance(package.parents[node], ast.ClassDef) and not node.decorator_list:
+            yield node.lineno, "L5", f"{node.name} is a property and a method"
+        if isinstance(node, ast.FunctionDef) and node.name in package.properties and node.name in METHODS:
+            yield node.lineno, "L5", f"the property {node.name} has the name of a builtin value's method"
+    for name in package.class_values & set(package.properties):
+        yield 1, "L5", f"{name} is a property and a class value"
+
+
 def loops(package, path, tree):
     """What a loop iterates over is not modified in it (L23)."""
     for node in ast.walk(tree):
@@ -855,7 +871,7 @@ def called_by(package, function):
         if isinstance(node, ast.Name) and isinstance(node.ctx, ast.Load):
             if package.function(path, node.id):
                 found.append(package.function(path, node.id))
-            if node.id in package.classes:
+            if node.id in package.classes and is_call(package.parents[node], node.id):
                 found += [part for part in package.classes[node.id].body if getattr(part, "name", "") == "__init__"]
         if isinstance(node, ast.Attribute) and node.attr in package.methods:
             found += package.methods[node.attr]
@@ -913,5 +929,45 @@ def changes(package, function):
             yield node.lineno, "global or nonlocal"
 
 
-LOOKS = (characters, sizes, words, imports, module_level, functions, classes, statements, expressions, names, generators,
-         calls, loops, errors)
+# L6: with, and what an __exit__ does
+
+def is_simple(node):
+    """Whether it is a name, an attribute of one, a literal without a sign, or a list or tuple of such."""
+    if isinstance(node, (ast.List, ast.Tuple)):
+        return all(is_simple(part) for part in node.elts)
+    while isinstance(node, ast.Attribute):
+        node = node.value
+    return isinstance(node, (ast.Name, ast.Constant))
+
+
+def is_exit_row(node, given):
+    """Whether a row may stand in an __exit__; the three things that it is given are not read."""
+    if isinstance(node, ast.Pass):
+        return True
+    if isinstance(node, ast.Return):
+        return node.value is None or isinstance(node.value, ast.Constant) and node.value.value in (None, False)
+    if isinstance(node, ast.Assign):
+        read = [part.id for part in ast.walk(node) if isinstance(part, ast.Name)]
+        return len(node.targets) == 1 and is_simple(node.targets[0]) and is_simple(node.value) and not set(read) & given
+    return False
+
+
+def contexts(package, path, tree):
+    for node in ast.walk(tree):
+        if isinstance(node, ast.With):
+            for item in node.items:
+                if not isinstance(item.context_expr, (ast.Call, ast.Name, ast.Attribute)) \
+                        or item.optional_vars is not None and not isinstance(item.optional_vars, ast.Name):
+                    yield node.lineno, "L6", "a with over something else than a call, a name or an attribute"
+        if isinstance(node, ast.FunctionDef) and node.name in ("__enter__", "__exit__"):
+            names = [part.arg for part in parameters(node)]
+            if len(names) != (1 if node.name == "__enter__" else 4) and node.args.vararg is None:
+                yield node.lineno, "L6", f"the parameters of {node.name}"
+            rows = node.body if node.name == "__exit__" else []
+            for row in rows:
+                if not is_exit_row(row, set(names[1:])):
+                    yield row.lineno, "L6", "a row that may not stand in __exit__"
+
+
+LOOKS = (contexts, characters, sizes, words, imports, module_level, functions, classes, statements, expressions, names, generators,
+         calls, properties, loops, errors)

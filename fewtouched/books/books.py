@@ -46,7 +46,7 @@ def first_strained(scene, doors=()):
     """A triple (role, table, bridge) of the first role that is strained; None if all are served."""
     need_scene(scene)
     need_doors(scene, doors)
-    for role in [*scene.changing, *_different(doors)]:
+    for role in [*scene.changing, *distinct(doors)]:
         straining = tables_straining(scene, role)
         if len(straining) > 0:
             return role, straining[0], first_bridge(scene, role, straining[0])
@@ -62,7 +62,7 @@ def costs(scene, doors=()):
         for table, views in _leads(scene, view):
             looked, altered = told[table]
             told[table] = (looked + len(views), altered + 1)
-    for door in _different(doors):
+    for door in distinct(doors):
         told[door] = (len(views_among(scene, door, scene.tables)), 0)
     return told
 
@@ -84,7 +84,7 @@ def followed(scene, doors=()):
     """A generator of triples (view, role, views): by which views the view is followed, or the door answered."""
     need_scene(scene)
     need_doors(scene, doors)
-    for door in _different(doors):
+    for door in distinct(doors):
         yield (scene.tables, door), door, views_among(scene, door, scene.tables)
     for view in book_of(scene, doors):
         for table, views in _leads(scene, view):
@@ -105,7 +105,7 @@ def book_of(scene, doors):
 
 def _first_views(scene, doors):
     """The views that are in the book whatever else is in it."""
-    of_doors = [view for door in _different(doors) for view in views_among(scene, door, scene.tables)]
+    of_doors = [view for door in distinct(doors) for view in views_among(scene, door, scene.tables)]
     return [(scene.tables, ()), *of_doors]
 
 
@@ -124,6 +124,6 @@ def _loud(scene, doors):
     return tuple([view for view in book_of(scene, doors) if not is_quiet_view(scene, view)])
 
 
-def _different(doors):
+def distinct(doors):
     """The doors without repeats, ascending."""
-    return sorted({door for door in doors})
+    return tuple(sorted({door for door in doors}))
