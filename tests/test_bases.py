@@ -8,8 +8,8 @@ from fewtouched.base.scenes import Scene
 from fewtouched.errors import (InvalidBase, InvalidNumber, InvalidOperation, InvalidScene, NotThere, TooMany,
                                UnknownName)
 from tests.arguments import Argument, check_errors
-from tests.values import (CHAIN, Case, DAY, EVERY, GOODS, LONG, NO_NUMBERS, NO_SCENES, SHELVES, SHOP, no_integers,
-                          no_table)
+from tests.values import (CHAIN, Case, DAY, EVERY, GOODS, LONG, NO_NUMBERS, NO_SCENES, SHELVES, SHOP, has_hash,
+                          no_integers, no_table)
 
 # Tables that cannot be passed by keyword, tables without columns, and keys of all kinds.
 ODD = Scene(changing={"self": ("a", "b"), "scene": (), "plain": ("a",)},
@@ -140,7 +140,7 @@ class Made(Case):
                         self.raises(InvalidBase, Base.of, SHOP, value)
                     self.raises(InvalidBase, Base.of, CHAIN, value)
         for table in no_table(SHOP):
-            if isinstance(table, (str, int, tuple, type(None))) and not _has_list(table):
+            if has_hash(table):
                 self.raises(InvalidBase, Base.of, SHOP, {table: ()})
                 self.raises(InvalidBase, Base.of, SHOP, {"order": (), table: ()})
         with self.assertRaises(InvalidBase):
@@ -163,12 +163,6 @@ class Made(Case):
             self.raises(InvalidBase, Base.of, ODD, {"scene": (row,)})
         self.raises(InvalidBase, Base, SHOP, order=[(1, 2)])
         self.raises(InvalidBase, Base, SHOP, order={(1, 2): 1})
-
-
-def _has_list(value):
-    if isinstance(value, tuple):
-        return any(_has_list(part) for part in value)
-    return isinstance(value, (list, dict, Scene, Base, Exception))
 
 
 class Told(Case):

@@ -1,18 +1,26 @@
-"""The main guarantee [0.21], as far as books tell it, and scenes that show that no sentence of [0.22] is true."""
+"""The main guarantee [0.21], and scenes that show that no sentence of [0.22] is true."""
 
+from itertools import product
 from math import prod
 from random import Random
 
 from fewtouched.base.bases import Base
-from fewtouched.base.matches import answer, difference
+from fewtouched.base.matches import answer, difference, total_of
 from fewtouched.base.scenes import Scene
-from fewtouched.books.books import book, first_strained, followed, is_quiet_book
+from fewtouched.books.books import book, costs, first_strained, followed, is_quiet_book
+from fewtouched.books.keeper import Keeper
 from fewtouched.books.pieces import factors, number_by, piece_views, pieces
+from fewtouched.books.shifts import Shift
+from fewtouched.desk.desk import Desk
+from fewtouched.errors import NotThere, Strained, TouchError
 from fewtouched.strain.bridges import bridge, bridges, is_served, strained_tables, strains
+from fewtouched.strain.served import fewest_phases, greatest_together, least_still
+from fewtouched.strain.twins import is_twins, twins
 from fewtouched.views.closures import finds
 from fewtouched.views.quiet import is_quiet
 from fewtouched.views.views import altered, entries, entry
 from tests.oracle import role_columns, roles_of, some_base, some_scenes, subsets
+from tests.slow import some_changes
 from tests.values import CHAIN, Case, FAR, GOODS, SHOP
 
 # The key of t leads from a to w, and by it to y, although neither a nor c has a column of t.
@@ -33,6 +41,7 @@ class Guaranteed(Case):
             for base in bases:
                 self.check_number(base, role, chance)
         self.check_tables(scene)
+        self.check_twins(scene, chance)
         doors = subsets(scene.columns)
         for told in ((), (doors[-1], ()), *[(door,) for door in doors]):
             every = all(is_served(scene, role) for role in [*scene.changing, *told])
@@ -61,6 +70,15 @@ class Guaranteed(Case):
                     self.assertLessEqual(set(strains(keyed)), before)
                     for door in subsets(scene.columns):
                         self.assertLessEqual(set(strained_tables(keyed, door)), set(strained_tables(scene, door)))
+
+    def check_twins(self, scene, chance):
+        """That exactly the strained roles have twins."""
+        for role in chance.sample(roles_of(scene), min(6, len(roles_of(scene)))):
+            told = twins(scene, role)
+            self.assertEqual(told is None, is_served(scene, role))
+            if told is not None:
+                self.assertTrue(is_twins(scene, role, told))
+                self.assertNotEqual(number_by(told[1], role, told[0]), number_by(told[2], role, told[0]))
 
     def check_followed(self, base, doors, chance):
         """That the views that are followed tell how the entries of a view rise."""
@@ -115,6 +133,85 @@ class ManyScenes(Guaranteed):
                 key = tuple(found[column] for column in view[1])
                 if rise:
                     kept[view][key] = kept[view].get(key, 0) + rise
+
+
+class KeptUp(Case):
+    """All of this holds for keepers, through phases, and at a desk after any edits, undone or not."""
+
+    def test_sets_and_phases_are_those_of_a_graph(self):
+        for scene in some_scenes(60, seed=62):
+            edges = {frozenset(pair) for pair in strains(scene)}
+            for door in ((), scene.columns, scene.columns[:1]):
+                bad = {table for table in scene.changing if table in strained_tables(scene, door)}
+                apart = [set(some) for some in subsets(scene.changing)
+                         if not bad & set(some) and not any(edge <= set(some) for edge in edges)]
+                most = sorted(tuple(sorted(some)) for some in apart if not any(some < more for more in apart))
+                self.same(greatest_together(scene, doors=(door,)), tuple(most))
+                least = sorted(tuple(sorted(set(scene.changing) - set(some))) for some in most)
+                self.same(least_still(scene, doors=(door,)), tuple(least))
+            phases = fewest_phases(scene)
+            self.assertFalse(any(edge <= set(phase) for edge in edges for phase in phases))
+            for colours in product(range(max(len(phases) - 1, 0)), repeat=len(scene.changing)):
+                told = dict(zip(scene.changing, colours))
+                self.assertTrue(any(len({told[table] for table in edge}) == 1 for edge in edges) or len(phases) == 0)
+
+    def test_keepers_and_shifts(self):
+        chance, quiet = Random(63), 0
+        for scene in some_scenes(80, tables=4, columns=4, seed=63):
+            if scene.changing:
+                base = some_base(scene, chance)
+                doors = tuple(door for door in subsets(scene.columns) if is_served(scene, door))[:3]
+                keeper = Keeper(base, *doors) if is_quiet_book(scene) else None
+                shift = Shift(base, fewest_phases(scene))
+                quiet += keeper is not None
+                for table, row, many in some_changes(base, chance, 8):
+                    change = "put" if many >= 0 else "take"
+                    getattr(shift, change)(table, row, many=abs(many))
+                    if keeper is not None:
+                        getattr(keeper, change)(table, row, many=abs(many))
+                        self.assertIn(keeper.last[0], (0, costs(scene, doors)[table][0]))
+                        self.assertLessEqual(keeper.last[1], costs(scene, doors)[table][1])
+                shift.settle()
+                self.same(shift.total, total_of(shift.base))
+                self.check_keeper(keeper, shift.base, doors, chance)
+        self.assertGreater(quiet, 20)
+
+    def check_keeper(self, keeper, base, doors, chance):
+        if keeper is not None:
+            self.assertEqual(keeper.base, base)
+            self.same(keeper.total, total_of(base))
+            for door in doors:
+                integers = tuple(chance.randrange(3) for _ in door)
+                self.same(keeper(door, integers), answer(base, door, integers))
+                self.assertIn(keeper.last, ((0, 0), costs(base.scene, doors)[door]))
+
+    def test_a_desk(self):
+        chance, desk, made = Random(64), Desk(), 0
+        scenes = some_scenes(40, tables=4, columns=4, seed=64)
+        for _ in range(300):
+            edits = [("drop", "a")] if "a" in desk and chance.random() < 0.2 else []
+            edits += [("scene", "a", some_base(chance.choice(scenes), chance))] if "a" not in desk or edits else []
+            scene = edits[-1][2].scene if edits else desk.base_of("a").scene
+            table = chance.choice(scene.tables)
+            row = tuple(chance.randrange(3) for _ in scene.columns_of(table))
+            edits += [chance.choice((("put", "a", table, row, 2), ("hold", "a", table), ("free", "a", table),
+                                     ("open", "a", chance.choice(subsets(scene.columns))), ("rows", "a", table, (row,)),
+                                     ("key", "a", table, None), ("key", "a", table, scene.columns_of(table))))]
+            try:
+                made += desk.apply_all(tuple(edits)) > 0
+            except (TouchError, Strained, NotThere):
+                pass
+            if chance.random() < 0.2 and len(desk) > 1:
+                desk.undo(many=chance.randint(0, 1))
+            if "a" in desk:
+                base, doors = desk.base_of("a"), desk.doors_of("a")
+                self.assertTrue(is_quiet_book(base.scene, doors))
+                self.same(desk.total_at("a"), total_of(base))
+                self.check_keeper(desk.keeper("a"), base, doors, chance)
+                for door in doors:
+                    integers = tuple(chance.randrange(3) for _ in door)
+                    self.same(desk.ask("a", door, integers), answer(base, door, integers))
+        self.assertGreater(made, 100)
 
 
 class Untrue(Guaranteed):

@@ -7,7 +7,11 @@ from fewtouched import errors
 from fewtouched.base import scenes
 from fewtouched.base.bases import Base
 from fewtouched.base.scenes import Scene
-from tests.values import Case, SHOP
+from fewtouched.books.keeper import Keeper
+from fewtouched.books.shifts import Shift
+from fewtouched.desk.desk import Desk
+from fewtouched.text.shell import Shell
+from tests.values import Case, GOODS, SHOP
 
 PLAIN, REST, ONLY, MORE = (inspect.Parameter.POSITIONAL_OR_KEYWORD, inspect.Parameter.VAR_POSITIONAL,
                            inspect.Parameter.KEYWORD_ONLY, inspect.Parameter.VAR_KEYWORD)
@@ -37,8 +41,23 @@ FUNCTIONS = {
                                "is_quiet_book(scene, doors=())", "first_strained(scene, doors=())",
                                "costs(scene, doors=())", "looked_views(scene, role, doors=())",
                                "followed(scene, doors=())"),
+    "fewtouched.strain.twins": ("number_of(base, role, integers)", "twins(scene, role)",
+                                "twins_along(scene, role, table, bridge)", "is_twins(scene, role, value)",
+                                "telling_views(scene, role, value)"),
+    "fewtouched.strain.served": ("served_doors(scene)", "together(scene, tables, *, doors=())",
+                                 "greatest_together(scene, *, doors=())", "least_still(scene, *, doors=())",
+                                 "fewest_phases(scene)", "is_phases(scene, value)"),
+    "fewtouched.change.operations": ("possible_steps(scene, doors)", "behind(scene, doors, step)",
+                                     "gone(scene, doors, step)", "come(scene, doors, step)", "mends(scene, doors)",
+                                     "heal(scene, doors)", "is_heal(scene, doors, value)", "beside(first, second)"),
+    "fewtouched.text.formats": ("format_scene(scene)", "format_base(base)", "format_view(scene, view)",
+                                "format_role(scene, role)", "format_bridge(scene, bridge)",
+                                "format_twins(scene, twins)", "parse_scene(text)", "parse_base(scene, text)",
+                                "parse_view(scene, text)", "parse_role(scene, text)", "parse_bridge(scene, text)",
+                                "parse_twins(scene, text)"),
 }
-GENERATORS = ("matches", "all_views", "quiet_views", "bridges", "followed")
+GENERATORS = ("matches", "all_views", "quiet_views", "bridges", "followed", "telling_views", "served_doors",
+              "possible_steps", "mends", "follow")
 CONSTANTS = {"fewtouched.base.scenes": {"MAX_TABLES": 6, "MAX_COLUMNS": 6, "MOST_COLUMNS": 4},
              "fewtouched.base.bases": {"MAX_ROWS": 400}, "fewtouched.base.matches": {"MAX_ANSWERS": 10000},
              "fewtouched.views.views": {"MAX_ENTRIES": 10000}}
@@ -54,6 +73,21 @@ CLASSES = {
            ("rows(table)", "times(table, row)", "put(table, row, *, many=1)", "take(table, row, *, many=1)",
             "with_rows(table, rows)", "on(scene)"), ("of(scene, rows)",),
            ("__init__", "__add__", "__len__", "__eq__", "__str__")),
+    Keeper: ("fewtouched.books.keeper", ("base", "doors", "views", "total", "last"),
+             ("put(table, row, *, many=1)", "take(table, row, *, many=1)", "follow(changes)", "ask(door, integers)",
+              "entries(view)", "admit(*doors)", "shut(*doors)", "twin()"), ("of(base, doors)",),
+             ("__init__", "__call__", "__len__", "__eq__", "__str__")),
+    Shift: ("fewtouched.books.shifts", ("base", "phases", "phase", "total", "waiting", "built", "last"),
+            ("put(table, row, *, many=1)", "take(table, row, *, many=1)", "turn(*, many=1)", "settle()", "whole()"), (),
+            ("__init__", "__len__", "__str__")),
+    Desk: ("fewtouched.desk.desk", ("log", "watches"),
+           ("apply(*edits)", "apply_all(edits)", "undo(*, many=1)", "redo(*, many=1)", "base_of(name)", "doors_of(name)",
+            "total_at(name)", "work(name)", "keeper(name)", "ask(name, door, integers)", "watch(name, door, integers)",
+            "news()", "trial()", "during(call)", "twin()"), (),
+           ("__init__", "__iter__", "__contains__", "__len__", "__eq__", "__str__")),
+    Shell: ("fewtouched.text.shell", ("log",),
+            ("run(text)", "run_all(texts)", "tried(text)", "desk_twin()"), ("of_log(texts)",),
+            ("__init__", "__len__", "__eq__", "__str__")),
 }
 
 
@@ -101,6 +135,7 @@ class Interface(Case):
                     function = vars(kind)[line.partition("(")[0]]
                     self.assertTrue(inspect.isfunction(function))
                     self.assertEqual(told(function), line)
+                    self.assertEqual(inspect.isgeneratorfunction(function), line.partition("(")[0] in GENERATORS)
                 for line in class_methods:
                     self.assertIsInstance(vars(kind)[line.partition("(")[0]], classmethod)
                     self.assertEqual(told(getattr(kind, line.partition("(")[0])), line)
@@ -110,6 +145,10 @@ class Interface(Case):
     def test_made(self):
         self.assertEqual(told(Scene), "Scene(*, changing=None, fixed=None, keyed=None)")
         self.assertEqual(told(Base), "Base(scene, **rows)")
+        self.assertEqual(told(Keeper), "Keeper(base, *doors)")
+        self.assertEqual(told(Shift), "Shift(base, phases)")
+        self.assertEqual(told(Desk), "Desk()")
+        self.assertEqual(told(Shell), "Shell(desk=None)")
         self.assertEqual(scenes.Scene, Scene)
 
     def test_arguments_by_keyword_come_in_any_order(self):
@@ -119,6 +158,9 @@ class Interface(Case):
         self.assertRaises(TypeError, Scene, {"t": ("a",)})
         self.assertRaises(TypeError, SHOP.with_table, "t", ("a",), "changing")
         self.assertRaises(TypeError, Base(SHOP).put, "buyer", (1,), 1)
+        self.assertRaises(TypeError, Keeper(Base(GOODS)).put, "stock", (1,), 1)
+        self.assertRaises(TypeError, Shift(Base(GOODS), (("order", "stock"),)).take, "stock", (1,), 0)
+        self.assertRaises(TypeError, Desk().undo, 0)
         self.assertEqual(Base(SHOP, stock=((1,),), buyer=((2,),)), Base(SHOP, buyer=((2,),), stock=((1,),)))
 
     def test_equal_calls_return_equal_results(self):

@@ -25,7 +25,8 @@ class ThePackage(Case):
     def test_files_are_there(self):
         files = files_of_package()
         modules = ("errors", "base/names", "base/scenes", "base/bases", "base/matches", "views/closures", "views/views",
-                   "views/quiet", "strain/bridges", "books/pieces", "books/books")
+                   "views/quiet", "strain/bridges", "books/pieces", "books/books", "books/keeper", "strain/twins",
+                   "strain/served", "books/shifts", "change/operations", "desk/desk", "text/formats", "text/shell")
         for path in modules:
             self.assertIn(f"fewtouched/{path}.py", files)
             self.assertIn(f"fewtouched/{path}".rpartition("/")[0] + "/__init__.py", files)
@@ -91,6 +92,20 @@ class Box:
 
     def __str__(self):
         return f"box of {len(self._rows)} rows"
+
+    def __enter__(self):
+        self._many = 1
+        return self
+
+    def __exit__(self, kind, value, trace):
+        rows = self._rows
+        self._kept = rows
+        self._many = 0
+
+
+def held(box):
+    with box as same:
+        return same.many
 
 
 def steps(rows):
@@ -165,8 +180,16 @@ BAD = (
     ("L5", "class A:\n    @property\n    def n(self):\n        return self.g()\n\n    def g(self):\n        self.x = 1\n        return 1"),
     ("L5", "class A:\n    def __str__(self):\n        return str(f([]))\n\n\ndef f(x):\n    x.append(1)\n    return x"),
     ("L5", "class A:\n    def __or__(self, other):\n        total = []\n        total += other\n        return total"),
+    ("L5", "class A:\n    @property\n    def n(self):\n        return 1\n\n\nclass B:\n    def __init__(self):\n        self.n = 1"),
+    ("L5", "class A:\n    @property\n    def n(self):\n        return 1\n\n\nclass B:\n    def n(self):\n        return 1"),
+    ("L5", "class A:\n    @property\n    def title(self):\n        return 1"),
     ("L6", "def f():\n    global A"), ("L6", "async def f():\n    return 1\n\n\ndef g():\n    async def h():\n        return 1"),
     ("L6", "def f(x):\n    x == 1"), ("L6", "def f(x):\n    del x.y"), ("L6", "def f(x):\n    match x:\n        case 1:\n            pass"),
+    ("L6", "class A:\n    def __exit__(self, kind, value, trace):\n        self.x = f(1)"),
+    ("L6", "class A:\n    def __exit__(self, kind, value, trace):\n        self.x = value"),
+    ("L6", "class A:\n    def __exit__(self, kind, value, trace):\n        return True"), ("L6", "class A:\n    def __exit__(self):\n        pass"),
+    ("L6", "class A:\n    def __exit__(self, kind, value, trace):\n        self.x += -1"), ("L6", "class A:\n    def __enter__(self, x):\n        return x"),
+    ("L6", "def f(xs):\n    with xs[0]:\n        return 1"), ("L6", "def f(x):\n    with x as x[0]:\n        return 1"),
     ("L7", "A = 1.5"), ("L7", "def f(x):\n    return x / 2"), ("L7", "def f(x):\n    return x @ x"), ("L7", "def f():\n    return ..."),
     ("L7", "def f(xs):\n    return any(x for x in xs)"), ("L7", "def f(xs):\n    return (x for x in xs)"),
     ("L7", "def f(xs):\n    return sum(x for x in xs)"), ("L7", "def f(xs):\n    return len(*xs)"),

@@ -5,7 +5,11 @@ from unittest import TestCase
 
 from fewtouched.base.bases import Base
 from fewtouched.base.scenes import Scene
+from fewtouched.books.keeper import Keeper
+from fewtouched.books.shifts import Shift
+from fewtouched.desk.desk import Desk
 from fewtouched.errors import InvalidScene, TooMany
+from fewtouched.text.shell import Shell
 
 SHOP = Scene(changing={"buyer": ("who",), "order": ("part", "who"), "stock": ("part",)})
 GOODS = Scene(changing={"order": ("part", "who"), "stock": ("shelf",)},
@@ -75,7 +79,9 @@ MORE = ("part", "shelf", "order", "place", "stock", "buyer", "r", ("part",), ("w
         [("order",), ("who",)], (["order"], ("who",)), (("order",), ["who"]), (("order",), ("who",), ()),
         (("order",), ("shelf",)), (("stock", "order"), ()), ((), ("who",)), (("order",), ("who", "part")), (1, 2),
         (10, 1), [10, 1], (10, True), (10, None), (10, (1,)), (1, 2, 3), (LONG,), (-LONG, LONG), {"order": ((10, 1),)},
-        {"order": [(10, 1)]}, {10: 1}, DAY, SHELVES, (DAY, (10, 1)), [DAY], {"a": DAY}, nested(DAY, 9))
+        {"order": [(10, 1)]}, {10: 1}, DAY, SHELVES, (DAY, (10, 1)), [DAY], {"a": DAY}, nested(DAY, 9), Keeper(SHELVES),
+        Shift(SHELVES, (("order",), ("stock",))), Desk(), Shell(), (Keeper(SHELVES),), [Desk()], nested(Shell(), 9),
+        Desk().trial())
 
 EVERY = ALL + MORE
 

@@ -118,6 +118,14 @@ def need_base(value):
         raise InvalidBase("it is no base")
 
 
+def base_with(scene, times):
+    """The base with these times, above 0, of the rows of some tables, in any order; errors as of Base."""
+    told = {table: _ascending(times.get(table, {})) for table in scene}
+    for table in scene:
+        _need_keyed(scene, table, told[table])
+    return _base_of(scene, told)
+
+
 def _base_of(scene, times):
     """The base with these times of rows, which are right but for their number."""
     _need_few(times)

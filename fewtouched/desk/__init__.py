@@ -1,0 +1,1 @@
+"""A desk of bases, and the edits that are made at it."""
