@@ -193,6 +193,30 @@ class Heals(Case):
         self.assertIs(is_heal(SHOP, (), (("hold", "buyer"),)), True)
         self.assertIs(is_heal(SHOP, (), (("hold", "order"),)), False)
 
+    def test_one_table_or_door_that_is_strained_with_many(self):
+        # b and c have the same names, so a alone strains them, and so does the door x.
+        scene = Scene(changing={"a": ("x",), "b": ("y",), "c": ("y",)}, fixed={"s": ("x", "y")})
+        self.same(strains(scene), (("a", "b"), ("a", "c")))
+        self.same(heal(scene, ()), (("hold", "a"),))
+        self.assertIs(is_heal(scene, (), (("hold", "b"), ("hold", "c"))), False)
+        self.same(heal(scene.held("a"), (("x",),)), (("shut", ("x",)),))
+        self.same(heal(scene, (("x",), ())), (("hold", "a"), ("shut", ("x",))))
+        self.assertIs(is_heal(scene, (("x",),), (("hold", "b"), ("hold", "c"))), True)
+        self.same(heal(scene.renamed("tables", {"a": "z"}), ()), (("hold", "z"),))
+        doors = (("w", "x"), ("w",), ("x",))
+        wide = scene.with_table("t", ("w", "y"), key=None).without("a")
+        self.same(heal(wide, doors), (("hold", "b"), ("hold", "c")))
+        self.same(heal(wide, doors[:1]), (("shut", ("w", "x")),))
+        self.assertIs(is_heal(wide, doors[:2], (("shut", ("w",)), ("shut", ("w", "x")))), True)
+        self.assertIs(is_heal(wide, doors[:2], (("shut", ("w", "x")), ("shut", ("w",)))), False)
+
+    def test_doors_are_shut_in_their_order(self):
+        scene = Scene(changing={name: ("y",) for name in "bcde"}, fixed={"s": ("v", "w", "x", "y")})
+        doors = (("w", "x"), ("v",), ("x",))
+        for told in (doors, doors[::-1], doors * 2):
+            self.same(heal(scene, told), (("shut", ("v",)), ("shut", ("w", "x")), ("shut", ("x",))))
+        self.same(heal(scene, (*doors, ("w",))), tuple(("hold", name) for name in "bcde"))
+
     def test_many_doors(self):
         for scene in (SHOP, GOODS, FAR, STAR, *some_scenes(20, seed=115)):
             doors = tuple(subsets(scene.columns))
@@ -251,6 +275,8 @@ class Beside(Case):
                       Scene(changing={"t": ("a", "b", "c", "d"), "u": ("e",)})):
             self.raises(InvalidOperation, beside, DAY, Base(scene))
             self.raises(InvalidOperation, beside, Base(scene), DAY)
+        # A table without columns in both, although its line is the same in both.
+        self.raises(InvalidOperation, beside, Base(SHOP | Scene(fixed={"t": ()})), Base(Scene(fixed={"t": ()})))
         six = Scene(changing={"t": ("a", "b", "c", "d")})
         self.same(len(beside(DAY, Base(six)).scene.columns), 6)
         self.same(len(beside(DAY, Base(wide.without("a"))).scene), 6)

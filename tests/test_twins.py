@@ -239,6 +239,22 @@ class Judged(Case):
         bases = [base.take("buyer", (1,)) for base in (first, second)]
         self.assertIs(is_twins(SHOP, ("who",), ((0,), *bases)), False)
 
+    def test_rows_that_are_there_twice(self):
+        twice = [base + base for base in (FIRST, SECOND)]
+        for some in (twice, [base.put("stock", row) for base, row in ((FIRST, (1,)), (SECOND, (2,)))],
+                     [base.put("order", (1, 0)).put("order", (2, 1)) for base in (FIRST, SECOND)],
+                     [base.put("buyer", (5,), many=2) for base in (FIRST, SECOND)]):
+            self.assertIs(is_twins(SHOP, "buyer", ((0,), *some)), False)
+            self.assertIs(slow_is_twins(SHOP, "buyer", ((0,), *some)), False)
+        self.assertIs(is_twins(SHOP, "buyer", ((0,), *[base.put("buyer", (5,)) for base in (FIRST, SECOND)])), True)
+
+    def test_three_rows(self):
+        for table, rows in (("order", ((1, 0), (2, 1), (8, 8))), ("buyer", ((5,), (6,), (7,)))):
+            some = [base.with_rows(table, rows) for base in (FIRST, SECOND)]
+            self.assertIs(is_twins(SHOP, "buyer", ((0,), *some)), False)
+            some = [base.with_rows(table, rows[:2]) for base in (FIRST, SECOND)]
+            self.assertIs(is_twins(SHOP, "buyer", ((0,), *some)), True)
+
     def test_what_is_found_has_to_be_the_same(self):
         scene = Scene(changing={"a": ("x",), "b": ("y",)}, fixed={"k": ("x", "z"), "m": ("y", "z")}, keyed={"k": ("x",)})
         made = twins(scene, "a")

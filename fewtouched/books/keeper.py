@@ -85,7 +85,7 @@ class Keeper:
     def admit(self, *doors):
         """Open doors, and return how many are open then."""
         need_doors(self.base.scene, doors)
-        self._kept = with_doors(self._kept, (*self.doors, *doors))
+        self._kept = with_doors(self._kept, (*self._kept.open_doors, *doors))
         return len(self.doors)
 
     def shut(self, *doors):

@@ -29,7 +29,8 @@ def behind_edit(places, edit):
     need_place(places, name)
     if word == "drop":
         return {other: places[other] for other in places if other != name}
-    place, action = places[name], ACTIONS[word]
+    place = places[name]
+    action = ACTIONS[word]
     changed = action(place, *values)
     return {**places, name: changed}
 
